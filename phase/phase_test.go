@@ -148,7 +148,7 @@ var rules = []rule{
 	{[]int{1}, 2, func(m moment) bool { return m.r.Since >= m.t.Amber }},
 	{[]int{2}, 3, func(m moment) bool { return m.r.Since >= m.t.Red }},
 	{[]int{3}, 4, func(m moment) bool { return m.r.Since >= m.t.Entry && !m.obstacle }},
-	{[]int{3}, 4, func(m moment) bool { return m.r.Since >= sum(m.t.Entry, m.t.Override) }},
+	{[]int{3}, 4, func(m moment) bool { return m.r.Since >= m.t.Entry && m.r.Since >= sum(m.t.Entry, m.t.Override) }},
 	{[]int{4}, 5, func(m moment) bool { return m.b.EntryDown && m.b.ExitDown }},
 	{[]int{6}, 1, func(m moment) bool { return m.d.Urgent }},
 	{[]int{6}, 0, func(m moment) bool { return m.b.EntryUp && m.b.ExitUp }},
@@ -289,6 +289,28 @@ func TestEntry(t *testing.T) {
 				steps(t, m, x.free)
 				m.obstacle = true
 				steps(t, m, x.obstacle)
+			}
+		}
+	}
+}
+
+// P20.2: of PhaseEntry: not ahead of Entry, obstacle or not, if Override is below 0; at Entry in either case.
+func TestOverrideBelowZero(t *testing.T) {
+	for _, x := range []struct {
+		entry, since int
+		want         api.Road
+	}{
+		{1, -1, api.Road{Phase: 3, Since: 1}}, {1, 0, api.Road{Phase: 3, Since: 1}}, {1, 1, first(4)}, {1, 2, first(4)},
+		{0, -2, api.Road{Phase: 3, Since: 1}}, {0, -1, api.Road{Phase: 3, Since: 1}}, {0, 0, first(4)}, {0, 1, first(4)},
+		{6, least, api.Road{Phase: 3, Since: 1}}, {6, 0, api.Road{Phase: 3, Since: 1}}, {6, 3, api.Road{Phase: 3, Since: 4}}, {6, 4, api.Road{Phase: 3, Since: 5}}, {6, 5, api.Road{Phase: 3, Since: 6}}, {6, 6, first(4)}, {6, 7, first(4)}, {6, most, first(4)},
+		{6000, 5998, api.Road{Phase: 3, Since: 5999}}, {6000, 5999, api.Road{Phase: 3, Since: 6000}}, {6000, 6000, first(4)}, {6000, 6001, first(4)},
+		{-1, least, api.Road{Phase: 3, Since: 1}}, {-1, -3, api.Road{Phase: 3, Since: 1}}, {-1, -2, api.Road{Phase: 3, Since: 1}}, {-1, -1, first(4)}, {-1, 0, first(4)},
+		{most, 0, api.Road{Phase: 3, Since: 1}}, {most, longest, api.Road{Phase: 3, Since: longest}}, {most, most - 1, api.Road{Phase: 3, Since: longest}}, {most, most, first(4)},
+		{least + 1, least, api.Road{Phase: 3, Since: 1}}, {least + 1, least + 1, first(4)}, {least, least, first(4)}, {least, most, first(4)},
+	} {
+		for _, override := range []int{-1, -2, -5, -6, -7, -6000, -6001, -1 << 31, -1 << 32, -1 << 62, least + 2, least + 1, least} {
+			for _, d := range []api.Demand{closed, urgent} {
+				all(t, moment{t: api.Times{Entry: x.entry, Override: override}, r: api.Road{Phase: 3, Since: x.since}, d: d}, x.want)
 			}
 		}
 	}
@@ -454,6 +476,14 @@ type timed struct {
 	set func(*api.Times, int)
 }
 
+// parts are an Entry and an Override, not below 0, that are n together.
+func parts(n int) (entry, override int) {
+	if n < 0 {
+		return least, n - least
+	}
+	return n / 2, n - n/2
+}
+
 // timeds are all of them.
 var timeds = []timed{
 	{moment{r: api.Road{Phase: 0}, d: closed}, 1, func(t *api.Times, n int) { t.Open = n }},
@@ -464,8 +494,13 @@ var timeds = []timed{
 	{moment{r: api.Road{Phase: 3}, d: closed}, 4, func(t *api.Times, n int) { t.Entry = n }},
 	{moment{r: api.Road{Phase: 3}, d: closed}, 4, func(t *api.Times, n int) { t.Entry, t.Override = n, most }},
 	{moment{r: api.Road{Phase: 3}, d: urgent, obstacle: true}, 4, func(t *api.Times, n int) { t.Entry = n }},
-	{moment{r: api.Road{Phase: 3}, d: closed, obstacle: true}, 4, func(t *api.Times, n int) { t.Override = n }},
-	{moment{r: api.Road{Phase: 3}, d: closed, obstacle: true}, 4, func(t *api.Times, n int) { t.Entry, t.Override = n/2, n-n/2 }},
+	{moment{r: api.Road{Phase: 3}, d: closed, obstacle: true}, 4, func(t *api.Times, n int) { t.Entry, t.Override = min(n, 0), max(n, 0) }},
+	{moment{r: api.Road{Phase: 3}, d: closed, obstacle: true}, 4, func(t *api.Times, n int) { t.Entry, t.Override = parts(n) }},
+	// Of an Override below 0 Entry alone tells the end, over an obstacle and without one.
+	{moment{r: api.Road{Phase: 3}, d: closed, obstacle: true}, 4, func(t *api.Times, n int) { t.Entry, t.Override = n, -1 }},
+	{moment{r: api.Road{Phase: 3}, d: urgent, obstacle: true}, 4, func(t *api.Times, n int) { t.Entry, t.Override = n, least }},
+	{moment{r: api.Road{Phase: 3}, d: closed}, 4, func(t *api.Times, n int) { t.Entry, t.Override = n, -1 }},
+	{moment{r: api.Road{Phase: 3}, d: closed}, 4, func(t *api.Times, n int) { t.Entry, t.Override = n, least }},
 }
 
 // P20.2: a time counts as it is, 0, below 0, and at the ends, with a Since below, at, and above it.
@@ -510,6 +545,11 @@ func TestTimesAndSinces(t *testing.T) {
 	}
 }
 
+// around are the numbers beside n, and n.
+func around(n int) []int {
+	return []int{max(n, least+1) - 1, n, min(n, most-1) + 1}
+}
+
 // P20.2: Entry and Override together, at the ends of numbers from both sides, over an obstacle.
 func TestTogether(t *testing.T) {
 	for _, x := range []struct{ entry, override, sum int }{
@@ -522,16 +562,16 @@ func TestTogether(t *testing.T) {
 		{most, least, -1}, {least, most, -1}, {most, least + 1, 0}, {least + 1, most, 0}, {most, least + 2, 1}, {-5, 5, 0}, {5, -5, 0}, {-3, 5, 2}, {5, -3, 2}, {-2, -3, -5}, {40, 600, 640}, {6000, 6000, 12000},
 		{1 << 31, 1 << 31, 1 << 32}, {1<<31 - 1, 1, 1 << 31}, {1 << 30, 1, 1<<30 + 1}, {1 << 30, 1 << 30, 1 << 31},
 	} {
-		for _, since := range append([]int{x.sum, max(x.sum, least+1) - 1, min(x.sum, most-1) + 1}, sinces...) {
+		for _, since := range append(append(around(x.sum), around(x.entry)...), sinces...) {
 			m := moment{t: api.Times{Entry: x.entry, Override: x.override}, r: api.Road{Phase: 3, Since: since}, d: closed, obstacle: true}
-			if since >= x.sum {
+			if since >= x.entry && since >= x.sum {
 				steps(t, m, first(4))
 			} else {
 				steps(t, m, m.stays(longer(since)))
 			}
-			// Without an obstacle Entry alone is enough too.
+			// Without an obstacle Entry alone tells.
 			m.obstacle = false
-			if since >= x.sum || since >= x.entry {
+			if since >= x.entry {
 				steps(t, m, first(4))
 			} else {
 				steps(t, m, m.stays(longer(since)))
@@ -899,7 +939,7 @@ func TestRows(t *testing.T) {
 	d := dice(5)
 	entries, exits, overridden, raised, opened := 0, 0, 0, 0, 0
 	for range 3000 {
-		times := api.Times{Amber: d.below(5), Red: d.below(5), Entry: d.below(5), Open: d.below(6), Override: d.below(6)}
+		times := api.Times{Amber: d.below(5), Red: d.below(5), Entry: d.below(5), Open: d.below(6), Override: d.below(9) - 3}
 		w := watch{times: times, open: 1}
 		r := phase.Enter(api.PhaseOpen)
 		asked := none
